@@ -1,0 +1,1 @@
+"""Costpapers: linear tasks with the papers of both sides."""
