@@ -103,3 +103,21 @@ def check_row_index(task, index):
     """Raise BadNumber for a value that is not the index of a row of a task."""
     if not is_index(index, len(task[2])):
         raise BadNumber()
+
+
+def check_weights(task, weights):
+    """Raise BadPlan for a value that is not a ratio for each row of a task."""
+    if not are_ratios(weights, len(task[2])):
+        raise BadPlan()
+
+
+def check_column(task, column):
+    """Raise BadNumber for a value that is not the index of a column of a task."""
+    if not is_index(column, len(task[0])):
+        raise BadNumber()
+
+
+def check_steps(steps, many):
+    """Raise BadNumber for a value that is no tuple of so many integers that may stand in a task."""
+    if not are_numbers(steps, many):
+        raise BadNumber()

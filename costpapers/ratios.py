@@ -14,6 +14,11 @@ def reduced(top, low):
     return (top // shared, low // shared)
 
 
+def minus(ratio):
+    """The ratio negated."""
+    return (-ratio[0], ratio[1])
+
+
 def plus(one, other):
     """The sum of two ratios."""
     check_ratio(one)

@@ -5,21 +5,33 @@ import inspect
 import unittest
 
 FUNCTIONS = {
-    "costpapers.ratios": {
-        "plus": ["one", "other"], "times": ["one", "other"], "over": ["one", "other"], "compare": ["one", "other"],
-    },
-    "costpapers.tasks": {
-        "size": ["task"], "is_plan": ["task", "plan"], "cost": ["task", "plan"], "tight": ["task", "plan"],
-        "broken": ["task", "plan"], "plain": ["task"], "negated": ["task"], "with_row": ["task", "row"],
-        "without_row": ["task", "index"],
-    },
+    "ratios": "plus(one, other) times(one, other) over(one, other) compare(one, other)",
+    "tasks": """size(task) is_plan(task, plan) cost(task, plan) tight(task, plan) broken(task, plan) plain(task)
+        negated(task) with_row(task, row) without_row(task, index)""",
+    "solve": """ending(task) best_cost(task) some_plan(task) is_paper(task, paper) shows_best(task, plan, paper)
+        promise(task, paper) some_paper(task) is_reason(task, paper) is_way(task, way) some_reason(task)
+        some_way(task)""",
+    "other": """other_side(task) endings(task) first_plan(task) first_paper(task) is_one_plan(task) is_one_paper(task)
+        best_range(task, column) paper_range(task, index) live_columns(task) dear_columns(task) loose_rows(task)
+        paid_rows(task) fits_together(task, plan, paper)""",
+    "changes": """cost_after(task, steps, time) right_pieces(task, steps) cost_pieces(task, steps)
+        worth_of_row(task, index) same_until(task, column)""",
 }
+
+
+def listed():
+    """Each module, and its functions with their arguments, as the document lists them."""
+    for module, text in FUNCTIONS.items():
+        for told in text.replace("\n", " ").split(")"):
+            if told.strip():
+                name, parameters = told.strip().split("(")
+                yield f"costpapers.{module}", name, parameters.split(", ")
 
 
 class InterfaceTest(unittest.TestCase):
     def test_functions(self):
-        for module, functions in FUNCTIONS.items():
-            for name, parameters in functions.items():
-                function = getattr(importlib.import_module(module), name)
-                self.assertEqual(function.__module__, module, name)
-                self.assertEqual(list(inspect.signature(function).parameters), parameters, name)
+        for module, name, parameters in listed():
+            function = getattr(importlib.import_module(module), name)
+            self.assertTrue(inspect.isfunction(function), name)
+            self.assertEqual(function.__module__, module, name)
+            self.assertEqual(list(inspect.signature(function).parameters), parameters, name)

@@ -1,6 +1,7 @@
 """The package keeps to the language rules that a look at its files can tell."""
 
 import ast
+import builtins
 import re
 import unittest
 from pathlib import Path
@@ -21,6 +22,15 @@ BARRED = set("""
     type typing enum register mro elements open input law version_info with_traceback add_note global async chr eval
     exec getattr setattr hasattr globals locals vars dir id compile float bytearray memoryview
 """.split())
+
+
+METHODS = set("""
+    append clear copy count endswith extend find get index insert isalnum isalpha isdigit islower isspace isupper items
+    join keys ljust lower lstrip partition pop remove replace reverse rfind rjust rpartition rsplit rstrip setdefault
+    split splitlines startswith strip update upper values zfill bit_length
+""".split())
+TAKES_AT_ONCE = {"list", "tuple", "dict", "sorted", "sum", "any", "all", "enumerate", "zip", "min", "max"}
+COMPREHENSIONS = (ast.ListComp, ast.DictComp, ast.SetComp, ast.GeneratorExp)
 
 
 def sources():
@@ -109,3 +119,80 @@ class LanguageTest(unittest.TestCase):
                 self.assertNotIsInstance(getattr(node, "value", None), (float, complex), name)
             for node in tree.body:
                 self.assertEqual(getattr(node, "decorator_list", []), [], name)
+
+    def test_names_mean_one_thing(self):
+        for name, _, tree in sources():
+            fixed = set(dir(builtins))
+            for node in ast.walk(tree):
+                if isinstance(node, ast.ImportFrom):
+                    fixed |= {alias.name for alias in node.names}
+                elif isinstance(node, ast.ClassDef):
+                    fixed.add(node.name)
+            for node in ast.walk(tree):
+                if isinstance(node, ast.Name) and isinstance(node.ctx, (ast.Store, ast.Del)):
+                    self.assertNotIn(node.id, fixed, f"{name}:{node.lineno}")
+                elif isinstance(node, ast.arg):
+                    self.assertNotIn(node.arg, fixed, f"{name}:{node.lineno}")
+                elif isinstance(node, ast.FunctionDef):
+                    self.assertNotIn(node.name, fixed, f"{name}:{node.lineno}")
+
+    def test_imports_go_one_way(self):
+        imports, defined = {}, {}
+        for name, _, tree in sources():
+            module = "costpapers." + name.removesuffix(".py")
+            defined[module] = {node.name for node in tree.body if isinstance(node, (ast.FunctionDef, ast.ClassDef))}
+            defined[module] |= {node.targets[0].id for node in tree.body if isinstance(node, ast.Assign)}
+            told = [node for node in tree.body if isinstance(node, ast.ImportFrom) and node.module.startswith("costpapers.")]
+            imports[module] = {(node.module, alias.name) for node in told for alias in node.names}
+            read = {node.id for node in ast.walk(tree) if isinstance(node, ast.Name)}
+            for node in tree.body:
+                if isinstance(node, ast.ImportFrom):
+                    self.assertLessEqual({alias.name for alias in node.names}, read, f"{module} imports in vain")
+        for module, told in imports.items():
+            for source, imported in told:
+                self.assertIn(imported, defined[source], module)
+        left = {module: {source for source, _ in told} for module, told in imports.items()}
+        while left:
+            free = {module for module, told in left.items() if not told & set(left)}
+            self.assertTrue(free, f"a ring of imports among {sorted(left)}")
+            left = {module: told for module, told in left.items() if module not in free}
+
+    def test_calls(self):
+        for name, _, tree in sources():
+            for node in ast.walk(tree):
+                if not isinstance(node, ast.Call):
+                    continue
+                place = f"{name}:{node.lineno}"
+                if isinstance(node.func, ast.Attribute):
+                    self.assertIn(node.func.attr, METHODS, place)
+                if any(isinstance(arg, ast.Starred) for arg in node.args):
+                    self.assertIn(node.func.id, ("max", "min", "zip"), place)
+                for arg in node.args:
+                    if isinstance(arg, ast.GeneratorExp):
+                        self.fail(f"{place}: a list is taken instead")
+
+    def test_iterated_at_once(self):
+        for name, _, tree in sources():
+            allowed = set()
+            for node in ast.walk(tree):
+                if isinstance(node, (ast.For, ast.comprehension)):
+                    allowed.add(id(node.iter))
+                elif isinstance(node, ast.Call) and isinstance(node.func, ast.Name) and node.func.id in TAKES_AT_ONCE:
+                    allowed |= {id(arg) for arg in node.args}
+            for node in ast.walk(tree):
+                if isinstance(node, ast.Call) and isinstance(node.func, ast.Name):
+                    if node.func.id in ("zip", "enumerate", "reversed", "range", "map", "product", "combinations"):
+                        self.assertIn(id(node), allowed, f"{name}:{node.lineno}")
+                self.assertNotIsInstance(node, (ast.Yield, ast.YieldFrom, ast.NamedExpr, ast.Set, ast.SetComp), name)
+
+    def test_comprehensions_have_names_of_their_own(self):
+        for name, _, tree in sources():
+            for node in ast.walk(tree):
+                if isinstance(node, COMPREHENSIONS):
+                    outer = self.targets(node)
+                    for part in ast.walk(node):
+                        if isinstance(part, COMPREHENSIONS) and part is not node:
+                            self.assertFalse(outer & self.targets(part), f"{name}:{node.lineno}")
+
+    def targets(self, node):
+        return {part.id for loop in node.generators for part in ast.walk(loop.target) if isinstance(part, ast.Name)}

@@ -5,18 +5,11 @@ from itertools import product
 
 from costpapers.errors import BadNumber, BadPlan, BadRow, BadTask
 from costpapers.tasks import broken, cost, is_plan, negated, plain, size, tight, with_row, without_row
-from tests.samples import BARE, BROAD, FOOD, FULL, LIMITS, MIXED, NO_RATIOS, STRANGERS, TASKS, Case, put, ratio, total
+from tests.samples import BARE, BROAD, FOOD, FULL, LIMITS, MIXED, STRANGERS, TASKS, Case, put, ratio, total
+from tests.wrong import no_frames, no_indexes, no_plans, no_rows
 
 ON_PLANS = (is_plan, cost, tight, broken)
 SOME_RATIOS = ((-1000, 1), (-1, 1), (0, 1), (1, 3), (1, 1), (2, 1), (3, 1), (17, 2))
-
-
-def is_int(value):
-    return type(value) is int
-
-
-def is_number(value):
-    return is_int(value) and -1000 <= value <= 1000
 
 
 def good_plan(task):
@@ -41,59 +34,6 @@ def kept(row, plan):
     numbers, sign, right = row
     value = total(numbers, plan)
     return {">=": value >= right, "<=": value <= right, "=": value == right}[sign]
-
-
-def no_frames():
-    """Values that are no tasks by their first two items, or by what the third one is."""
-    for value in STRANGERS + (list(FOOD), FOOD + (0,), FOOD[:2], (FOOD,), dict(enumerate(FOOD))):
-        yield value
-    for value in STRANGERS + ("+", "+++", "+ ", "-+", ("+", "+"), ["+", "+"], "+++++++"):
-        yield put(FOOD, (0,), value)
-    for value in STRANGERS + ((2,), (2, 3, 4), [2, 3], {2: 3}):
-        yield put(FOOD, (1,), value)
-    for value in STRANGERS + (1001, -1001, (2,)):
-        if not is_number(value):
-            yield put(FOOD, (1, 1), value)
-    for value in STRANGERS + (list(FOOD[2]), FOOD[2] * 3, (None,) * 9):
-        if not isinstance(value, tuple) or len(value) > 8:
-            yield put(FOOD, (2,), value)
-    yield ("", (), ())
-    yield ("+" * 7, (0,) * 7, ())
-    yield ("+", (1001,), ())
-    yield ("+", (-1001,), ())
-    yield ("+", (True,), ())
-
-
-def no_rows():
-    """Values that are no rows of two columns."""
-    row = ((1, 2), ">=", 8)
-    for value in STRANGERS + (list(row), row[:2], row + (0,), (row,), dict(enumerate(row))):
-        yield value
-    for value in STRANGERS + ((1,), (1, 2, 3), [1, 2], {1: 2}):
-        yield put(row, (0,), value)
-    for value in STRANGERS + (1001, -1001, (1,)):
-        if not is_number(value):
-            yield put(row, (0, 0), value)
-            yield put(row, (0, 1), value)
-            yield put(row, (2,), value)
-    for value in STRANGERS + (">", "<", "==", "=>", "=<", ">= ", "!=", (">=",), [">="]):
-        yield put(row, (1,), value)
-
-
-def no_plans():
-    """Values that are no ratios for two columns."""
-    for value in STRANGERS + (((1, 1),), ((1, 1),) * 3, [(1, 1), (1, 1)], ((1, 1), [1, 1]), {(1, 1): (2, 1)}, (1, 1)):
-        yield value
-    for value in NO_RATIOS:
-        yield ((1, 1), value)
-        yield (value, (1, 1))
-
-
-def no_indexes(task):
-    """Values that are not the index of a row."""
-    for value in STRANGERS + (-len(task[2]), len(task[2]), 10 ** 30, "0", (0,), [0], (0, 1)):
-        if not is_int(value) or not 0 <= value < len(task[2]):
-            yield value
 
 
 class ExamplesTest(Case):

@@ -1,0 +1,103 @@
+"""Wrong arguments: promise 1, and the errors that are named for each argument, for all functions but those of tasks."""
+
+from costpapers import changes, errors, other, solve
+from tests.samples import FOOD, NO_RATIOS, STRANGERS, Case, put
+from tests.wrong import no_columns, no_frames, no_indexes, no_lists_of, no_plans, no_rows, no_weights
+
+# Kinds of arguments: one that is allowed, the error of those that are not, and these.
+KINDS = {
+    "task": (FOOD, "BadTask", no_frames),
+    "plan": (((2, 1), (3, 1)), "BadPlan", no_plans),
+    "weights": (((7, 5), (1, 5), (0, 1)), "BadPlan", no_weights),
+    "index": (2, "BadNumber", lambda: no_indexes(FOOD)),
+    "column": (1, "BadNumber", lambda: no_columns(FOOD)),
+    "steps": ((1, 0, -1), "BadNumber", lambda: no_lists_of(3)),
+    "prices": ((1, -1), "BadNumber", lambda: no_lists_of(2)),
+    "time": ((1, 2), "BadNumber", lambda: NO_RATIOS),
+}
+
+# All functions that take a task: their arguments, and the errors behind those of all arguments.
+FUNCTIONS = (
+    (solve.ending, ("task",), ()),
+    (solve.best_cost, ("task",), ()),
+    (solve.some_plan, ("task",), ()),
+    (solve.is_paper, ("task", "weights"), ()),
+    (solve.promise, ("task", "weights"), ()),
+    (solve.some_paper, ("task",), ("NotBest",)),
+    (solve.shows_best, ("task", "plan", "weights"), ()),
+    (solve.is_reason, ("task", "weights"), ()),
+    (solve.is_way, ("task", "plan"), ()),
+    (solve.some_reason, ("task",), ()),
+    (solve.some_way, ("task",), ()),
+    (other.other_side, ("task",), ("NoOther",)),
+    (other.endings, ("task",), ()),
+    (other.first_plan, ("task",), ("NotBest",)),
+    (other.first_paper, ("task",), ("NotBest",)),
+    (other.is_one_plan, ("task",), ("NotBest",)),
+    (other.is_one_paper, ("task",), ("NotBest",)),
+    (other.best_range, ("task", "column"), ("NotBest",)),
+    (other.paper_range, ("task", "index"), ("NotBest",)),
+    (other.live_columns, ("task",), ("NotBest",)),
+    (other.dear_columns, ("task",), ("NotBest",)),
+    (other.loose_rows, ("task",), ("NotBest",)),
+    (other.paid_rows, ("task",), ("NotBest",)),
+    (other.fits_together, ("task", "plan", "weights"), ()),
+    (changes.cost_after, ("task", "steps", "time"), ()),
+    (changes.right_pieces, ("task", "steps"), ()),
+    (changes.cost_pieces, ("task", "prices"), ()),
+    (changes.worth_of_row, ("task", "index"), ()),
+    (changes.same_until, ("task", "column"), ()),
+)
+
+# Tasks of two columns and three rows with the errors that they have.
+ENDLESS = ("++", (-2, 3), FOOD[2][:2] + (((1, 0), ">=", 6),))
+EMPTY = ("++", (2, 3), FOOD[2][:2] + (((1, 0), "<=", -6),))
+LATE = {"NotBest": (ENDLESS, EMPTY)}
+
+
+def good(kinds):
+    return [KINDS[kind][0] for kind in kinds]
+
+
+class WrongArgumentsTest(Case):
+    def test_good_ones(self):
+        for function, kinds, _ in FUNCTIONS:
+            self.gives(function(*good(kinds)), function, *good(kinds))
+
+    def test_one_wrong(self):
+        for function, kinds, _ in FUNCTIONS:
+            for at, kind in enumerate(kinds):
+                fields = {"index": None} if kind == "task" else {}
+                for value in KINDS[kind][2]():
+                    args = good(kinds)
+                    args[at] = value
+                    self.fails(getattr(errors, KINDS[kind][1]), fields, function, *args)
+
+    def test_wrong_rows(self):
+        for function, kinds, _ in FUNCTIONS:
+            for at, row in enumerate(no_rows()):
+                task = put(FOOD, (2, at % 3), row)
+                self.fails(errors.BadTask, {"index": at % 3}, function, task, *good(kinds)[1:])
+
+    def test_the_leftmost_wrong_one_is_told(self):
+        for function, kinds, _ in FUNCTIONS:
+            for first in range(len(kinds)):
+                for value in STRANGERS:
+                    args = good(kinds)[:first] + [{"an": "odd one"}] + [value] * (len(kinds) - first - 1)
+                    fields = {"index": None} if first == 0 else {}
+                    self.fails(getattr(errors, KINDS[kinds[first]][1]), fields, function, *args)
+
+    def test_other_errors(self):
+        for function, kinds, late in FUNCTIONS:
+            for name in late:
+                for task in LATE.get(name, ()):
+                    self.fails(getattr(errors, name), {}, function, task, *good(kinds)[1:])
+
+    def test_other_errors_come_behind(self):
+        for function, kinds, _ in FUNCTIONS:
+            for task in (ENDLESS, EMPTY):
+                for at in range(1, len(kinds)):
+                    for value in (None, "a", [], {}, True, (True, 1), 1001):
+                        args = [task] + good(kinds)[1:]
+                        args[at] = value
+                        self.fails(getattr(errors, KINDS[kinds[at]][1]), {}, function, *args)

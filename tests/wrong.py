@@ -1,0 +1,91 @@
+"""Values that are not allowed for one argument or another, most of them nearly allowed."""
+
+from tests.samples import FOOD, NO_RATIOS, STRANGERS, put
+
+
+def is_int(value):
+    return type(value) is int
+
+
+def is_number(value):
+    return is_int(value) and -1000 <= value <= 1000
+
+
+def no_frames():
+    """Values that are no tasks by their first two items, or by what the third one is."""
+    for value in STRANGERS + (list(FOOD), FOOD + (0,), FOOD[:2], (FOOD,), dict(enumerate(FOOD))):
+        yield value
+    for value in STRANGERS + ("+", "+++", "+ ", "-+", ("+", "+"), ["+", "+"], "+++++++"):
+        yield put(FOOD, (0,), value)
+    for value in STRANGERS + ((2,), (2, 3, 4), [2, 3], {2: 3}):
+        yield put(FOOD, (1,), value)
+    for value in STRANGERS + (1001, -1001, (2,)):
+        if not is_number(value):
+            yield put(FOOD, (1, 1), value)
+    for value in STRANGERS + (list(FOOD[2]), FOOD[2] * 3, (None,) * 9):
+        if not isinstance(value, tuple) or len(value) > 8:
+            yield put(FOOD, (2,), value)
+    yield ("", (), ())
+    yield ("+" * 7, (0,) * 7, ())
+    yield ("+", (1001,), ())
+    yield ("+", (-1001,), ())
+    yield ("+", (True,), ())
+
+
+def no_rows():
+    """Values that are no rows of two columns."""
+    row = ((1, 2), ">=", 8)
+    for value in STRANGERS + (list(row), row[:2], row + (0,), (row,), dict(enumerate(row))):
+        yield value
+    for value in STRANGERS + ((1,), (1, 2, 3), [1, 2], {1: 2}):
+        yield put(row, (0,), value)
+    for value in STRANGERS + (1001, -1001, (1,)):
+        if not is_number(value):
+            yield put(row, (0, 0), value)
+            yield put(row, (0, 1), value)
+            yield put(row, (2,), value)
+    for value in STRANGERS + (">", "<", "==", "=>", "=<", ">= ", "!=", (">=",), [">="]):
+        yield put(row, (1,), value)
+
+
+def no_plans():
+    """Values that are no ratios for two columns."""
+    for value in STRANGERS + (((1, 1),), ((1, 1),) * 3, [(1, 1), (1, 1)], ((1, 1), [1, 1]), {(1, 1): (2, 1)}, (1, 1)):
+        yield value
+    for value in NO_RATIOS:
+        yield ((1, 1), value)
+        yield (value, (1, 1))
+
+
+def no_indexes(task):
+    """Values that are not the index of a row."""
+    for value in STRANGERS + (-len(task[2]), len(task[2]), 10 ** 30, "0", (0,), [0], (0, 1)):
+        if not is_int(value) or not 0 <= value < len(task[2]):
+            yield value
+
+
+def no_weights():
+    """Values that are not a ratio for each of three rows."""
+    for value in STRANGERS + (((1, 1),), ((1, 1),) * 2, ((1, 1),) * 4, [(1, 1)] * 3, {(1, 1): 2}, (1, 1, 1)):
+        yield value
+    for value in NO_RATIOS:
+        for at in range(3):
+            yield put(((1, 1), (0, 1), (-1, 2)), (at,), value)
+
+
+def no_lists_of(many):
+    """Values that are no tuples of so many integers from -1000 to 1000."""
+    for value in STRANGERS + ((1,) * (many - 1), (1,) * (many + 1), [1] * many, dict.fromkeys(range(many)), ((1,),)):
+        if not (isinstance(value, tuple) and len(value) == many and all(map(is_number, value))):
+            yield value
+    for value in STRANGERS + (1001, -1001, 10 ** 30, (1,), (1, 1)):
+        if not is_number(value):
+            for at in range(many):
+                yield put((1,) * many, (at,), value)
+
+
+def no_columns(task):
+    """Values that are not the index of a column."""
+    for value in STRANGERS + (-len(task[0]), len(task[0]), 10 ** 30, "0", (0,), [0], (0, 1)):
+        if not is_int(value) or not 0 <= value < len(task[0]):
+            yield value
