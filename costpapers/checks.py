@@ -2,11 +2,12 @@
 
 from math import gcd
 
-from costpapers.errors import BadNumber, BadPlan, BadRow, BadTask
+from costpapers.errors import BadNumber, BadPlan, BadRow, BadTable, BadTask
 
 MOST_COLUMNS = 6
 MOST_ROWS = 8
 MOST_NUMBER = 1000
+MOST_TABLE = 5
 ROW_SIGNS = (">=", "<=", "=")
 
 
@@ -71,6 +72,16 @@ def is_frame(value):
     return isinstance(rows, tuple) and len(rows) <= MOST_ROWS
 
 
+def is_table_of(value, most):
+    """Tell whether a value is a tuple of tuples of as many numbers, of each one at least and so many at most."""
+    if not isinstance(value, tuple) or not 1 <= len(value) <= most:
+        return False
+    first = value[0]
+    if not isinstance(first, tuple) or not 1 <= len(first) <= most:
+        return False
+    return all([are_numbers(row, len(first)) for row in value])
+
+
 def check_ratio(value):
     """Raise BadNumber for a value that is no ratio."""
     if not is_ratio(value):
@@ -121,3 +132,15 @@ def check_steps(steps, many):
     """Raise BadNumber for a value that is no tuple of so many integers that may stand in a task."""
     if not are_numbers(steps, many):
         raise BadNumber()
+
+
+def check_numbers(task, numbers):
+    """Raise BadRow for a value that is no tuple of an integer that may stand in a row for each column of a task."""
+    if not are_numbers(numbers, len(task[0])):
+        raise BadRow()
+
+
+def check_table(table):
+    """Raise BadTable for a value that is no table."""
+    if not is_table_of(table, MOST_TABLE):
+        raise BadTable()

@@ -1,6 +1,6 @@
 """Sums, products, quotients and the order of ratios."""
 
-from math import gcd
+from math import gcd, lcm
 
 from costpapers.checks import check_ratio
 from costpapers.errors import BadNumber
@@ -12,6 +12,25 @@ def reduced(top, low):
     if low < 0:
         shared = -shared
     return (top // shared, low // shared)
+
+
+def shared_low(ratios):
+    """The least number above 0 that the low numbers of all ratios divide."""
+    shared = 1
+    for _, low in ratios:
+        shared = lcm(shared, low)
+    return shared
+
+
+def tops_over(ratios, low):
+    """What the top numbers of ratios are over one low number, which their own ones divide."""
+    return [top * (low // own) for top, own in ratios]
+
+
+def ascending(points):
+    """The tuples of ratios, ascending."""
+    low = shared_low([ratio for point in points for ratio in point])
+    return sorted(points, key=lambda point: tops_over(point, low))
 
 
 def minus(ratio):

@@ -129,11 +129,12 @@ def weights_of(line, width, many, low):
 
 
 def without_divisor(numbers):
-    """The integers, not all 0, without their common divisor, as a tuple."""
+    """The integers without their common divisor, as a tuple."""
     shared = 0
     for number in numbers:
         shared = gcd(shared, number)
-    return tuple([number // shared for number in numbers])
+    # Only where all integers are 0 there is nothing to divide by.
+    return tuple([number // max(shared, 1) for number in numbers])
 
 
 def solution(program):
@@ -190,7 +191,7 @@ def weighted(program, weights):
     return True
 
 
-def promised(rows, weights):
+def promise_of(rows, weights):
     """The sum of the products of weights and right sides."""
     return sum_by([row[2] for row in rows], weights)
 
@@ -239,7 +240,7 @@ def promise(task, paper):
     """The sum of the products of weights and right sides."""
     check_task(task)
     check_weights(task, paper)
-    return promised(task[2], paper)
+    return promise_of(task[2], paper)
 
 
 def some_paper(task):
@@ -256,14 +257,14 @@ def shows_best(task, plan, paper):
     check_task(task)
     check_plan(task, plan)
     check_weights(task, paper)
-    return is_plan(task, plan) and weighted(task, paper) and cost(task, plan) == promised(task[2], paper)
+    return is_plan(task, plan) and weighted(task, paper) and cost(task, plan) == promise_of(task[2], paper)
 
 
 def is_reason(task, paper):
     """Tell whether weights are a reason that there is no plan."""
     check_task(task)
     check_weights(task, paper)
-    return weighted(without_costs(task), paper) and promised(task[2], paper)[0] > 0
+    return weighted(without_costs(task), paper) and promise_of(task[2], paper)[0] > 0
 
 
 def is_way(task, way):

@@ -7,6 +7,7 @@ wrong, so that what it tells holds, whatever the program did.
 
 import random
 from fractions import Fraction
+from itertools import combinations
 from math import gcd
 
 from costpapers.solve import solution
@@ -233,3 +234,122 @@ def span_by_elimination(kinds, rows, numbers):
     if low is not None and high is not None and low > high:
         return None
     return low, high
+
+
+def settled(rows):
+    """The rows that are left of rows of fractions when each is 0 at the first place of all others."""
+    told = []
+    for row in rows:
+        row = [Fraction(item) for item in row]
+        for done in told:
+            at = first_place(done)
+            row = [item - row[at] * other for item, other in zip(row, done)]
+        if any(row):
+            at = first_place(row)
+            row = [item / row[at] for item in row]
+            told = [[item - done[at] * other for item, other in zip(done, row)] for done in told] + [row]
+    return told
+
+
+def first_place(row):
+    return next(place for place, item in enumerate(row) if item)
+
+
+def rank(rows):
+    return len(settled(rows))
+
+
+def limits(kinds, rows):
+    """All rows, and one for each column of the kind "+"."""
+    return [*rows, *((one_at(len(kinds), at), ">=", 0) for at, kind in enumerate(kinds) if kind == "+")]
+
+
+def tight(row, point):
+    return dot(row[0], point) == row[2]
+
+
+def corner_points(kinds, rows):
+    """The corners, from all choices of limits, ascending."""
+    found = set()
+    for chosen in combinations(limits(kinds, rows), len(kinds)):
+        told = settled([(*numbers, right) for numbers, _, right in chosen])
+        if len(told) == len(kinds) and all(any(row[:-1]) for row in told):
+            point = tuple(row[-1] for row in sorted(told, key=first_place))
+            if holds_plan(kinds, rows, point):
+                found.add(point)
+    return sorted(found)
+
+
+def outmost_ways(kinds, rows, zeros):
+    """The outmost ways that are 0 at some places, from all choices of limits, ascending."""
+    many, found = len(kinds), set()
+    level = [(numbers, sign, 0) for numbers, sign, _ in rows] + [(one_at(many, at), "=", 0) for at in zeros]
+    for chosen in combinations(limits(kinds, level), many - 1):
+        told = settled([numbers for numbers, _, _ in chosen])
+        if len(told) == many - 1:
+            free = next(at for at in range(many) if at not in [first_place(row) for row in told])
+            way = [Fraction(int(at == free)) for at in range(many)]
+            for row in told:
+                way[first_place(row)] = -row[free]
+            for one in (way, [-item for item in way]):
+                if holds_plan(kinds, level, one):
+                    found.add(whole(one))
+    return sorted(found)
+
+
+def parts_of(kinds, rows):
+    """Points and ways of which all plans are made: points by weights with the sum 1, ways by any not below 0."""
+    many = len(kinds)
+    told = settled([numbers for numbers, _, _ in limits(kinds, rows)])
+    free = [at for at in range(many) if at not in [first_place(row) for row in told]]
+    ways = outmost_ways(kinds, rows, free)
+    for at in free:
+        line = [Fraction(int(place == at)) for place in range(many)]
+        for row in told:
+            line[first_place(row)] = -row[at]
+        ways += [whole(line), whole([-item for item in line])]
+    return corner_points(kinds, [*rows, *((one_at(many, at), "=", 0) for at in free)]), ways
+
+
+def equal_rank(kinds, rows):
+    """How many limits that are tight for all plans do not hang on one another."""
+    told = []
+    for numbers, _, right in limits(kinds, rows):
+        if span(kinds, rows, numbers) == (right, right):
+            told.append(numbers)
+    return rank(told)
+
+
+def is_in_steps(rows):
+    """Tell whether rows of integers have no common divisors and begin above 0, one behind the other and alone there."""
+    places = [first_place(row) for row in rows]
+    if sorted(set(places)) != places:
+        return False
+    alone = all(not other[at] for row, at in zip(rows, places) for other in rows if other is not row)
+    return alone and all(gcd(*row) == 1 and row[at] > 0 for row, at in zip(rows, places))
+
+
+def is_written_form(many, told):
+    """Tell whether rows are written as a form, and each of them is needed, for a set that is not empty."""
+    if type(told) is not tuple or any(type(item) is not int for row in told for item in (*row[0], row[2])):
+        return False
+    equal, above = [row for row in told if row[1] == "="], [row for row in told if row[1] == ">="]
+    places = [first_place(row[0]) for row in equal]
+    if list(told) != equal + sorted(above) or not is_in_steps([(*row[0], row[2]) for row in equal]):
+        return False
+    for row in above:
+        if any(row[0][at] for at in places) or gcd(*row[0], row[2]) != 1:
+            return False
+        others = [other for other in told if other is not row]
+        if least("*" * many, others, row[0]) not in (ENDLESS, NONE) and least("*" * many, others, row[0]) >= row[2]:
+            return False
+    return equal_rank("*" * many, told) == len(equal)
+
+
+def all_keep(kinds, rows, others):
+    """Tell whether all plans of rows, which have some, keep other rows."""
+    for numbers, sign, right in others:
+        low, high = span(kinds, rows, numbers)
+        if sign != "<=" and (low is None or low < right) or sign != ">=" and (high is None or high > right):
+            return False
+    return True

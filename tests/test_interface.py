@@ -16,6 +16,16 @@ FUNCTIONS = {
         paid_rows(task) fits_together(task, plan, paper)""",
     "changes": """cost_after(task, steps, time) right_pieces(task, steps) cost_pieces(task, steps)
         worth_of_row(task, index) same_until(task, column)""",
+    "sets": """has_plan(task) is_bounded(task) always_tight(task) always_zero(task) dimension(task) span(task, numbers)
+        slack_span(task, index) far_most(task) follows(task, row) shows_follows(task, row, paper)
+        is_within(one, other) same_set(one, other) some_follow(task, row) needless(task) thinned(task)""",
+    "corners": """is_corner(task, plan) corners(task) base_points(task) lines(task) ways(task) neighbors(task, plan)
+        best_corners(task) edge_ways(task, plan) faces(task) is_mixed(task, plan) shows_mix(task, plan, value)
+        some_mix(task, plan)""",
+    "form": "form(task) hull(many, points, directions) shadow(task, columns)",
+    "games": """surely(table, mix) value(table) two_by_two(table) game_task(table) shows_value(table, mix, other)
+        is_one_mix(table) is_even(table) first_mix(table) first_column_mix(table) best_mixes(table) used_rows(table)
+        good_answers(table) saddles(table) safe_row(table)""",
 }
 
 

@@ -179,6 +179,8 @@ class LanguageTest(unittest.TestCase):
                     allowed.add(id(node.iter))
                 elif isinstance(node, ast.Call) and isinstance(node.func, ast.Name) and node.func.id in TAKES_AT_ONCE:
                     allowed |= {id(arg) for arg in node.args}
+                elif isinstance(node, ast.Call) and ast.unparse(node).startswith("reversed(range("):
+                    allowed.add(id(node.args[0]))
             for node in ast.walk(tree):
                 if isinstance(node, ast.Call) and isinstance(node.func, ast.Name):
                     if node.func.id in ("zip", "enumerate", "reversed", "range", "map", "product", "combinations"):

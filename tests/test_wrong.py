@@ -1,8 +1,10 @@
 """Wrong arguments: promise 1, and the errors that are named for each argument, for all functions but those of tasks."""
 
-from costpapers import changes, errors, other, solve
+from costpapers import changes, corners, errors, form, games, other, sets, solve
 from tests.samples import FOOD, NO_RATIOS, STRANGERS, Case, put
-from tests.wrong import no_columns, no_frames, no_indexes, no_lists_of, no_plans, no_rows, no_weights
+from tests.wrong import (
+    no_columns, no_frames, no_indexes, no_lists_of, no_mixes, no_plans, no_rows, no_tables, no_weights,
+)
 
 # Kinds of arguments: one that is allowed, the error of those that are not, and these.
 KINDS = {
@@ -14,9 +16,13 @@ KINDS = {
     "steps": ((1, 0, -1), "BadNumber", lambda: no_lists_of(3)),
     "prices": ((1, -1), "BadNumber", lambda: no_lists_of(2)),
     "time": ((1, 2), "BadNumber", lambda: NO_RATIOS),
+    "numbers": ((1, -1), "BadRow", lambda: no_lists_of(2)),
+    "row": (((1, 1), ">=", 5), "BadRow", no_rows),
+    "table": (((3, -1), (-2, 1)), "BadTable", no_tables),
+    "mix": (((1, 2), (1, 2)), "BadTable", no_mixes),
 }
 
-# All functions that take a task: their arguments, and the errors behind those of all arguments.
+# Functions, their arguments, and the errors behind those of all arguments.
 FUNCTIONS = (
     (solve.ending, ("task",), ()),
     (solve.best_cost, ("task",), ()),
@@ -47,12 +53,53 @@ FUNCTIONS = (
     (changes.cost_pieces, ("task", "prices"), ()),
     (changes.worth_of_row, ("task", "index"), ()),
     (changes.same_until, ("task", "column"), ()),
+    (sets.has_plan, ("task",), ()),
+    (sets.always_tight, ("task",), ("NoPlan",)),
+    (sets.always_zero, ("task",), ("NoPlan",)),
+    (sets.dimension, ("task",), ("NoPlan",)),
+    (sets.is_bounded, ("task",), ("NoPlan",)),
+    (sets.span, ("task", "numbers"), ("NoPlan",)),
+    (sets.slack_span, ("task", "index"), ("NoPlan",)),
+    (sets.far_most, ("task",), ("NoPlan",)),
+    (sets.follows, ("task", "row"), ("NoPlan",)),
+    (sets.some_follow, ("task", "row"), ("NoPlan",)),
+    (sets.shows_follows, ("task", "row", "weights"), ()),
+    (sets.needless, ("task",), ("NoPlan",)),
+    (sets.thinned, ("task",), ("NoPlan",)),
+    (sets.is_within, ("task", "task"), ()),
+    (sets.same_set, ("task", "task"), ()),
+    (corners.is_corner, ("task", "plan"), ()),
+    (corners.corners, ("task",), ("NoPlan",)),
+    (corners.lines, ("task",), ("NoPlan",)),
+    (corners.base_points, ("task",), ("NoPlan",)),
+    (corners.ways, ("task",), ("NoPlan",)),
+    (corners.best_corners, ("task",), ("NoPlan",)),
+    (corners.faces, ("task",), ("NoPlan",)),
+    (corners.is_mixed, ("task", "plan"), ("NoPlan",)),
+    (corners.some_mix, ("task", "plan"), ("NoPlan",)),
+    (form.form, ("task",), ("NoPlan",)),
+    (games.surely, ("table", "mix"), ()),
+    (games.value, ("table",), ()),
+    (games.game_task, ("table",), ()),
+    (games.shows_value, ("table", "mix", "mix"), ()),
+    (games.first_mix, ("table",), ()),
+    (games.first_column_mix, ("table",), ()),
+    (games.best_mixes, ("table",), ()),
+    (games.is_one_mix, ("table",), ()),
+    (games.used_rows, ("table",), ()),
+    (games.good_answers, ("table",), ()),
+    (games.saddles, ("table",), ()),
+    (games.safe_row, ("table",), ()),
+    (games.two_by_two, ("table",), ()),
+    (games.is_even, ("table",), ()),
 )
+# Those whose first argument is a task.
+ON_TASKS = tuple(told for told in FUNCTIONS if told[1][0] == "task")
 
 # Tasks of two columns and three rows with the errors that they have.
 ENDLESS = ("++", (-2, 3), FOOD[2][:2] + (((1, 0), ">=", 6),))
 EMPTY = ("++", (2, 3), FOOD[2][:2] + (((1, 0), "<=", -6),))
-LATE = {"NotBest": (ENDLESS, EMPTY)}
+LATE = {"NotBest": (ENDLESS, EMPTY), "NoPlan": (EMPTY,)}
 
 
 def good(kinds):
@@ -74,7 +121,7 @@ class WrongArgumentsTest(Case):
                     self.fails(getattr(errors, KINDS[kind][1]), fields, function, *args)
 
     def test_wrong_rows(self):
-        for function, kinds, _ in FUNCTIONS:
+        for function, kinds, _ in ON_TASKS:
             for at, row in enumerate(no_rows()):
                 task = put(FOOD, (2, at % 3), row)
                 self.fails(errors.BadTask, {"index": at % 3}, function, task, *good(kinds)[1:])
@@ -84,7 +131,7 @@ class WrongArgumentsTest(Case):
             for first in range(len(kinds)):
                 for value in STRANGERS:
                     args = good(kinds)[:first] + [{"an": "odd one"}] + [value] * (len(kinds) - first - 1)
-                    fields = {"index": None} if first == 0 else {}
+                    fields = {"index": None} if kinds[first] == "task" else {}
                     self.fails(getattr(errors, KINDS[kinds[first]][1]), fields, function, *args)
 
     def test_other_errors(self):
@@ -94,10 +141,11 @@ class WrongArgumentsTest(Case):
                     self.fails(getattr(errors, name), {}, function, task, *good(kinds)[1:])
 
     def test_other_errors_come_behind(self):
-        for function, kinds, _ in FUNCTIONS:
+        for function, kinds, _ in ON_TASKS:
             for task in (ENDLESS, EMPTY):
                 for at in range(1, len(kinds)):
                     for value in (None, "a", [], {}, True, (True, 1), 1001):
                         args = [task] + good(kinds)[1:]
                         args[at] = value
-                        self.fails(getattr(errors, KINDS[kinds[at]][1]), {}, function, *args)
+                        fields = {"index": None} if kinds[at] == "task" else {}
+                        self.fails(getattr(errors, KINDS[kinds[at]][1]), fields, function, *args)

@@ -89,3 +89,31 @@ def no_columns(task):
     for value in STRANGERS + (-len(task[0]), len(task[0]), 10 ** 30, "0", (0,), [0], (0, 1)):
         if not is_int(value) or not 0 <= value < len(task[0]):
             yield value
+
+
+def no_tables():
+    """Values that are no tables."""
+    table = ((3, -1), (-2, 1))
+    for value in STRANGERS + (list(table), {0: (1, 2)}, ((),), ((), ()), ((1, 2), (3,)), ((1,), (2, 3)), (table,), "ab"):
+        if value != ((1, 1),) * 7:
+            yield value
+    yield ((1,),) * 6
+    yield ((1, 2),) * 6
+    yield ((1,) * 6,)
+    yield ((1,) * 6,) * 2
+    yield ((1, 2), [3, 4])
+    yield ((1, 2), None)
+    yield (None, (1, 2))
+    for value in STRANGERS + (1001, -1001, (1,), 10 ** 30):
+        if not is_number(value):
+            for place in ((0, 0), (0, 1), (1, 0), (1, 1)):
+                yield put(table, place, value)
+
+
+def no_mixes():
+    """Values that are no mixes of two."""
+    yield from no_plans()
+    for value in (((1, 2), (1, 3)), ((0, 1), (0, 1)), ((1, 1), (1, 1)), ((3, 2), (-1, 2)), ((-1, 1), (2, 1)), ((2, 1), (-1, 1))):
+        yield value
+    yield ((1, 1),)
+    yield ((1, 2), (1, 4), (1, 4))
