@@ -26,6 +26,15 @@ FUNCTIONS = {
     "games": """surely(table, mix) value(table) two_by_two(table) game_task(table) shows_value(table, mix, other)
         is_one_mix(table) is_even(table) first_mix(table) first_column_mix(table) best_mixes(table) used_rows(table)
         good_answers(table) saddles(table) safe_row(table)""",
+    "transports": """is_table(transport, value) is_one_table(transport) table_cost(transport, value)
+        transport_task(transport) least_transport(transport) first_table(transport) goods_range(transport, store, shop)
+        shows_prices(transport, prices, others) promised(transport, prices, others) least_pairing(table)
+        count_pairings(table) first_prices(transport) first_pairing(table) pairing_task(table)""",
+    "nets": """is_flow(net, value) most_flow(net) count_cuts(net) shortest(net) first_flow(net) least_cut(net)
+        narrow_arcs(net) heights(net)""",
+    "fits": """least_worst(marks) least_sum(marks) first_line(marks) is_one_line(marks) middles(numbers)
+        are_parted(marks, others) is_in_hull(marks, mark) some_parting(marks, others) some_common(marks, others)
+        outer_marks(marks)""",
 }
 
 

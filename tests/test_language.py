@@ -30,6 +30,7 @@ METHODS = set("""
     split splitlines startswith strip update upper values zfill bit_length
 """.split())
 TAKES_AT_ONCE = {"list", "tuple", "dict", "sorted", "sum", "any", "all", "enumerate", "zip", "min", "max"}
+LAZY = {"zip", "enumerate", "reversed", "range", "map", "product", "combinations", "permutations"}
 COMPREHENSIONS = (ast.ListComp, ast.DictComp, ast.SetComp, ast.GeneratorExp)
 
 
@@ -183,7 +184,7 @@ class LanguageTest(unittest.TestCase):
                     allowed.add(id(node.args[0]))
             for node in ast.walk(tree):
                 if isinstance(node, ast.Call) and isinstance(node.func, ast.Name):
-                    if node.func.id in ("zip", "enumerate", "reversed", "range", "map", "product", "combinations"):
+                    if node.func.id in LAZY:
                         self.assertIn(id(node), allowed, f"{name}:{node.lineno}")
                 self.assertNotIsInstance(node, (ast.Yield, ast.YieldFrom, ast.NamedExpr, ast.Set, ast.SetComp), name)
 

@@ -1,9 +1,10 @@
 """Wrong arguments: promise 1, and the errors that are named for each argument, for all functions but those of tasks."""
 
-from costpapers import changes, corners, errors, form, games, other, sets, solve
+from costpapers import changes, corners, errors, fits, form, games, nets, other, sets, solve, transports
 from tests.samples import FOOD, NO_RATIOS, STRANGERS, Case, put
 from tests.wrong import (
-    no_columns, no_frames, no_indexes, no_lists_of, no_mixes, no_plans, no_rows, no_tables, no_weights,
+    no_columns, no_counts_of, no_frames, no_goods, no_indexes, no_lists_of, no_mark, no_marks, no_mixes, no_nets,
+    no_numbers, no_places, no_plans, no_rows, no_squares, no_tables, no_transports, no_weights,
 )
 
 # Kinds of arguments: one that is allowed, the error of those that are not, and these.
@@ -20,6 +21,15 @@ KINDS = {
     "row": (((1, 1), ">=", 5), "BadRow", no_rows),
     "table": (((3, -1), (-2, 1)), "BadTable", no_tables),
     "mix": (((1, 2), (1, 2)), "BadTable", no_mixes),
+    "transport": (((3, 2), (2, 2), ((1, 4), (2, 1))), "BadTransport", no_transports),
+    "goods": (((2, 0), (0, 2)), "BadTable", no_goods),
+    "place": (1, "BadTransport", lambda: no_places(2)),
+    "asked": ((1, 1), "BadTable", lambda: no_counts_of(2)),
+    "square": (((1, 2), (3, 9)), "BadTable", no_squares),
+    "net": ((4, ((0, 1, 3), (0, 2, 2), (1, 2, 1), (1, 3, 2), (2, 3, 4))), "BadNet", no_nets),
+    "marks": (((0, 0), (1, 2), (2, 0)), "BadLists", no_marks),
+    "mark": ((1, 1), "BadLists", no_mark),
+    "amounts": ((5, 1, 9, 3), "BadLists", no_numbers),
 }
 
 # Functions, their arguments, and the errors behind those of all arguments.
@@ -92,6 +102,35 @@ FUNCTIONS = (
     (games.safe_row, ("table",), ()),
     (games.two_by_two, ("table",), ()),
     (games.is_even, ("table",), ()),
+    (transports.table_cost, ("transport", "goods"), ()),
+    (transports.transport_task, ("transport",), ()),
+    (transports.least_transport, ("transport",), ()),
+    (transports.first_table, ("transport",), ()),
+    (transports.is_one_table, ("transport",), ("NotBest",)),
+    (transports.goods_range, ("transport", "place", "place"), ("NotBest",)),
+    (transports.promised, ("transport", "asked", "asked"), ()),
+    (transports.first_prices, ("transport",), ()),
+    (transports.least_pairing, ("square",), ()),
+    (transports.first_pairing, ("square",), ()),
+    (transports.count_pairings, ("square",), ()),
+    (transports.pairing_task, ("square",), ()),
+    (nets.most_flow, ("net",), ()),
+    (nets.first_flow, ("net",), ()),
+    (nets.least_cut, ("net",), ()),
+    (nets.count_cuts, ("net",), ()),
+    (nets.narrow_arcs, ("net",), ()),
+    (nets.shortest, ("net",), ("NoWay",)),
+    (nets.heights, ("net",), ()),
+    (fits.least_worst, ("marks",), ()),
+    (fits.first_line, ("marks",), ()),
+    (fits.is_one_line, ("marks",), ()),
+    (fits.least_sum, ("marks",), ()),
+    (fits.middles, ("amounts",), ()),
+    (fits.are_parted, ("marks", "marks"), ()),
+    (fits.some_parting, ("marks", "marks"), ()),
+    (fits.some_common, ("marks", "marks"), ()),
+    (fits.is_in_hull, ("marks", "mark"), ()),
+    (fits.outer_marks, ("marks",), ()),
 )
 # Those whose first argument is a task.
 ON_TASKS = tuple(told for told in FUNCTIONS if told[1][0] == "task")
@@ -99,7 +138,14 @@ ON_TASKS = tuple(told for told in FUNCTIONS if told[1][0] == "task")
 # Tasks of two columns and three rows with the errors that they have.
 ENDLESS = ("++", (-2, 3), FOOD[2][:2] + (((1, 0), ">=", 6),))
 EMPTY = ("++", (2, 3), FOOD[2][:2] + (((1, 0), "<=", -6),))
-LATE = {"NotBest": (ENDLESS, EMPTY), "NoPlan": (EMPTY,)}
+# Tasks, transports and nets with the errors that they have.
+LATE = {
+    ("task", "NotBest"): (ENDLESS, EMPTY),
+    ("task", "NoPlan"): (EMPTY,),
+    ("task", "NoOther"): (("++", (2, 3), ()), ("++", (2, 3), FOOD[2] * 2 + FOOD[2][:1])),
+    ("transport", "NotBest"): (((1, 0), (2, 0), ((1, 4), (2, 1))),),
+    ("net", "NoWay"): ((2, ((1, 0, 1),)),),
+}
 
 
 def good(kinds):
@@ -137,8 +183,8 @@ class WrongArgumentsTest(Case):
     def test_other_errors(self):
         for function, kinds, late in FUNCTIONS:
             for name in late:
-                for task in LATE.get(name, ()):
-                    self.fails(getattr(errors, name), {}, function, task, *good(kinds)[1:])
+                for value in LATE[kinds[0], name]:
+                    self.fails(getattr(errors, name), {}, function, value, *good(kinds)[1:])
 
     def test_other_errors_come_behind(self):
         for function, kinds, _ in ON_TASKS:

@@ -117,3 +117,129 @@ def no_mixes():
         yield value
     yield ((1, 1),)
     yield ((1, 2), (1, 4), (1, 4))
+
+
+def no_squares():
+    """Values that are no square tables."""
+    yield from no_tables()
+    for many, width in ((1, 2), (2, 1), (2, 3), (3, 2), (4, 5), (5, 4), (1, 5), (5, 1)):
+        yield ((0,) * width,) * many
+
+
+def no_transports():
+    """Values that are no transports, changed from one of two stores and two shops."""
+    goods = ((3, 2), (2, 2), ((1, 4), (2, 1)))
+    for value in STRANGERS + (list(goods), goods + (0,), goods[:2], (goods,), dict(enumerate(goods)), goods[::-1]):
+        yield value
+    for value in STRANGERS + ((1, -1), (1001, 0), [3, 2], {3: 2}, (3, 2, 1), (3,), (1, 1, 1, 1), (0, 0, True)):
+        yield put(goods, (0,), value)
+        yield put(goods, (1,), value)
+    for value in STRANGERS + ([(1, 4), (2, 1)], goods[2][:1], goods[2] * 2, {(1, 4): (2, 1)}, goods[2] + ((0, 0),), 5):
+        yield put(goods, (2,), value)
+    for value in STRANGERS + ((1,), [1, 4], {1: 4}, (1, 4, 0), (1001, 0), (-1001, 0)):
+        yield put(goods, (2, 0), value)
+        yield put(goods, (2, 1), value)
+    for value in STRANGERS + (1001, 10 ** 30, (1,), "0"):
+        if not is_number(value):
+            for place in ((0, 0), (0, 1), (1, 0), (1, 1), (2, 0, 0), (2, 0, 1), (2, 1, 0), (2, 1, 1)):
+                yield put(goods, place, value)
+    for place in ((0, 0), (0, 1), (1, 0), (1, 1)):
+        yield put(goods, place, -1)
+    for place in ((2, 0, 0), (2, 1, 1)):
+        yield put(goods, place, -1001)
+    yield ((), (), ())
+    yield ((), (1,), ())
+    yield ((1,), (), ((),))
+    yield ((1,) * 4, (1,), ((1,),) * 4)
+    yield ((1,), (1,) * 4, ((1,) * 4,))
+
+
+def no_counts_of(many):
+    """Values that are no tuples of so many integers not below 0."""
+    for value in STRANGERS + ((1,) * (many - 1), (1,) * (many + 1), [1] * many, dict.fromkeys(range(many)), ((1,),)):
+        yield value
+    for value in STRANGERS + (-1, -1000, (1,), (1, 1), "1"):
+        if not is_int(value) or value < 0:
+            for at in range(many):
+                yield put((1,) * many, (at,), value)
+
+
+def no_goods():
+    """Values that are no tables of goods of stores (3, 2) and shops (2, 2)."""
+    goods = ((2, 0), (0, 2))
+    for value in STRANGERS + (list(goods), goods + ((0, 0),), goods[:1], {(2, 0): (0, 2)}, (2, 0, 0, 2), "ab"):
+        yield value
+    for value in no_counts_of(2):
+        yield put(goods, (0,), value)
+        yield put(goods, (1,), value)
+    for value in (((2, 0), (0, 1)), ((1, 0), (0, 2)), ((3, 1), (0, 2)), ((0, 2), (3, 0)), ((0, 0), (0, 0))):
+        yield value
+    for value in (((2, -1), (0, 3)), ((3, 0), (-1, 2)), (((2, 1), (0, 1)), ((0, 1), (2, 1)))):
+        yield value
+
+
+def no_places(many):
+    """Values that are not the index of one of so many."""
+    for value in STRANGERS + (-many, many, 10 ** 30, "0", (0,), [0], (0, 1)):
+        if not is_int(value) or not 0 <= value < many:
+            yield value
+
+
+def no_nets():
+    """Values that are no nets, changed from one of four places and five arcs."""
+    net = (4, ((0, 1, 3), (0, 2, 2), (1, 2, 1), (1, 3, 2), (2, 3, 4)))
+    for value in STRANGERS + (list(net), net + (0,), net[:1], (net,), dict([net]), net[::-1], net[1]):
+        yield value
+    for value in STRANGERS + (2, 3, 7, -4, "4", (4,), 10 ** 30):
+        yield put(net, (0,), value)
+    for value in STRANGERS + (list(net[1]), net[1] * 2, (net[1],), {(0, 1, 3): (0, 2, 2)}, (0, 1, 3)):
+        yield put(net, (1,), value)
+    for value in STRANGERS + ([0, 1, 3], {0: 1}, (0, 1), (0, 1, 3, 0), (0, 0, 3), (3, 3, 0), (4, 0, 1), (0, 4, 1)):
+        if value != (1, 2, 3):
+            yield put(net, (1, 0), value)
+            yield put(net, (1, 4), value)
+    for value in STRANGERS + (-1, 4, "0", (0,), 10 ** 30):
+        if not is_int(value) or not 0 <= value < 4:
+            yield put(net, (1, 2, 0), value)
+            yield put(net, (1, 2, 1), value)
+    for value in STRANGERS + (-1, 1001, "0", (0,), 10 ** 30):
+        if not is_int(value) or not 0 <= value <= 1000:
+            yield put(net, (1, 2, 2), value)
+    yield (1, ())
+    yield (2, ())
+    yield (1, ((0, 0, 1),))
+    yield (0, ((0, 1, 1),))
+    yield (2, ((0, 1, 1),) * 9)
+    yield (7, ((0, 1, 1),))
+
+
+def no_mark():
+    """Values that are no marks."""
+    for value in STRANGERS + ((1,), (1, 2, 3), [1, 2], {1: 2}, ((1, 2),)):
+        yield value
+    for value in STRANGERS + (1001, -1001, "1", (1,), (1, 2), 10 ** 30):
+        if not is_number(value):
+            yield (value, 1)
+            yield (1, value)
+
+
+def no_marks():
+    """Values that are no tuples of one to six marks."""
+    marks = ((0, 0), (1, 2), (2, 0))
+    for value in STRANGERS + (list(marks), {(0, 0): (1, 2)}, marks[0], (marks,), marks * 3, ((0, 0),) * 7, (None,)):
+        yield value
+    for value in no_mark():
+        for at in range(3):
+            yield put(marks, (at,), value)
+
+
+def no_numbers():
+    """Values that are no tuples of one to six integers from -1000 to 1000."""
+    for value in STRANGERS + ([5, 1], {5: 1}, (5,) * 7, ((5, 1),), "51"):
+        if value not in ((0,), (1,), (1, 2, 3)):
+            yield value
+    yield (True,)
+    for value in STRANGERS + (1001, -1001, "1", (1,), 10 ** 30):
+        if not is_number(value):
+            for at in range(4):
+                yield put((5, 1, 9, 3), (at,), value)
