@@ -3,6 +3,9 @@
 import importlib
 import inspect
 import unittest
+from pathlib import Path
+
+import costpapers
 
 FUNCTIONS = {
     "ratios": "plus(one, other) times(one, other) over(one, other) compare(one, other)",
@@ -35,7 +38,17 @@ FUNCTIONS = {
     "fits": """least_worst(marks) least_sum(marks) first_line(marks) is_one_line(marks) middles(numbers)
         are_parted(marks, others) is_in_hull(marks, mark) some_parting(marks, others) some_common(marks, others)
         outer_marks(marks)""",
+    "wholes": """best_whole(task) gap(task) whole_plans(task) count_whole(task) full_rank(task) is_whole(task)
+        is_plainly_whole(task)""",
+    "glue": """moved(task, columns, rows) beside(one, other) times_rows(task, numbers) split(task) with_slacks(task)
+        as_rows(task) shifted(task, steps)""",
+    "texts": "write(task) write_row(task, row) write_plan(task, plan) read(text) read_row(task, text)",
 }
+METHODS = {
+    "__init__": ["self", "task"], "left_costs": ["self"], "entering": ["self"], "leaving": ["self", "column"],
+    "step": ["self", "column", "other"], "undo": ["self"], "is_best": ["self"], "is_endless": ["self"], "run": ["self"],
+}
+PROPERTIES = ("base", "plan", "cost", "steps")
 
 
 def listed():
@@ -54,3 +67,17 @@ class InterfaceTest(unittest.TestCase):
             self.assertTrue(inspect.isfunction(function), name)
             self.assertEqual(function.__module__, module, name)
             self.assertEqual(list(inspect.signature(function).parameters), parameters, name)
+
+    def test_sheet(self):
+        sheet = importlib.import_module("costpapers.sheets").Sheet
+        self.assertTrue(inspect.isclass(sheet))
+        self.assertEqual((sheet.__module__, sheet.__bases__), ("costpapers.sheets", (object,)))
+        for name, parameters in METHODS.items():
+            # Each method stands in the class itself.
+            self.assertEqual(list(inspect.signature(vars(sheet)[name]).parameters), parameters, name)
+        for name in PROPERTIES:
+            self.assertIsInstance(vars(sheet)[name], property, name)
+
+    def test_all_modules_are_told(self):
+        modules = {path.stem for path in Path(costpapers.__file__).parent.glob("*.py")}
+        self.assertEqual(modules, {"__init__", "checks", "errors", "sheets", *FUNCTIONS})

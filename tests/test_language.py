@@ -159,18 +159,33 @@ class LanguageTest(unittest.TestCase):
             left = {module: told for module, told in left.items() if module not in free}
 
     def test_calls(self):
+        own = {node.name for _, _, tree in sources() for part in ast.walk(tree) if isinstance(part, ast.ClassDef)
+               for node in part.body if isinstance(node, ast.FunctionDef) and not node.decorator_list}
+        self.assertFalse(own & set(METHODS))
         for name, _, tree in sources():
             for node in ast.walk(tree):
                 if not isinstance(node, ast.Call):
                     continue
                 place = f"{name}:{node.lineno}"
                 if isinstance(node.func, ast.Attribute):
-                    self.assertIn(node.func.attr, METHODS, place)
+                    self.assertIn(node.func.attr, METHODS | own, place)
                 if any(isinstance(arg, ast.Starred) for arg in node.args):
                     self.assertIn(node.func.id, ("max", "min", "zip"), place)
                 for arg in node.args:
                     if isinstance(arg, ast.GeneratorExp):
                         self.fail(f"{place}: a list is taken instead")
+
+    def test_properties_change_nothing(self):
+        for name, _, tree in sources():
+            for node in ast.walk(tree):
+                if isinstance(node, ast.FunctionDef) and node.decorator_list:
+                    self.assertEqual([ast.unparse(told) for told in node.decorator_list], ["property"], name)
+                    self.assertNotIn(node.name, METHODS, name)
+                    for part in ast.walk(node):
+                        if isinstance(part, ast.Attribute):
+                            self.assertIsInstance(part.ctx, ast.Load, f"{name}: {node.name}")
+                        if isinstance(part, ast.Call):
+                            self.assertIsInstance(part.func, ast.Name, f"{name}: {node.name}")
 
     def test_iterated_at_once(self):
         for name, _, tree in sources():

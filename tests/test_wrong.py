@@ -1,11 +1,16 @@
 """Wrong arguments: promise 1, and the errors that are named for each argument, for all functions but those of tasks."""
 
-from costpapers import changes, corners, errors, fits, form, games, nets, other, sets, solve, transports
+from costpapers import (
+    changes, corners, errors, fits, form, games, glue, nets, other, sets, solve, texts, transports, wholes,
+)
 from tests.samples import FOOD, NO_RATIOS, STRANGERS, Case, put
 from tests.wrong import (
-    no_columns, no_counts_of, no_frames, no_goods, no_indexes, no_lists_of, no_mark, no_marks, no_mixes, no_nets,
-    no_numbers, no_places, no_plans, no_rows, no_squares, no_tables, no_transports, no_weights,
+    no_columns, no_counts_of, no_factors, no_frames, no_goods, no_indexes, no_lists_of, no_mark, no_marks, no_mixes,
+    no_nets, no_numbers, no_orders, no_places, no_plans, no_rows, no_squares, no_tables, no_texts, no_transports,
+    no_weights,
 )
+
+MILL = ("++", (-5, -4), (((6, 4), "<=", 24), ((1, 2), "<=", 6)))
 
 # Kinds of arguments: one that is allowed, the error of those that are not, and these.
 KINDS = {
@@ -30,6 +35,13 @@ KINDS = {
     "marks": (((0, 0), (1, 2), (2, 0)), "BadLists", no_marks),
     "mark": ((1, 1), "BadLists", no_mark),
     "amounts": ((5, 1, 9, 3), "BadLists", no_numbers),
+    "bounded": (MILL, "BadTask", no_frames),
+    "columns": ((1, 0), "BadOrder", lambda: no_orders(2)),
+    "rows": ((2, 0, 1), "BadOrder", lambda: no_orders(3)),
+    "factors": ((1, 2, 3), "BadNumber", lambda: no_factors(3)),
+    "shifts": ((0, 0), "BadNumber", lambda: no_lists_of(2)),
+    "text": ("a>=1", "NotText", no_texts),
+    "whole text": ("a: a", "NotText", no_texts),
 }
 
 # Functions, their arguments, and the errors behind those of all arguments.
@@ -131,9 +143,28 @@ FUNCTIONS = (
     (fits.some_common, ("marks", "marks"), ()),
     (fits.is_in_hull, ("marks", "mark"), ()),
     (fits.outer_marks, ("marks",), ()),
+    (wholes.best_whole, ("bounded",), ("NoPlan", "NotBounded")),
+    (wholes.gap, ("bounded",), ("NoPlan", "NotBounded")),
+    (wholes.whole_plans, ("bounded",), ("NoPlan", "NotBounded")),
+    (wholes.count_whole, ("bounded",), ("NoPlan", "NotBounded")),
+    (wholes.is_whole, ("task",), ()),
+    (wholes.is_plainly_whole, ("task",), ()),
+    (wholes.full_rank, ("task",), ()),
+    (glue.moved, ("task", "columns", "rows"), ()),
+    (glue.beside, ("task", "task"), ()),
+    (glue.times_rows, ("task", "factors"), ()),
+    (glue.split, ("task",), ()),
+    (glue.with_slacks, ("task",), ()),
+    (glue.as_rows, ("task",), ()),
+    (glue.shifted, ("task", "shifts"), ()),
+    (texts.write, ("task",), ()),
+    (texts.write_row, ("task", "row"), ()),
+    (texts.write_plan, ("task", "plan"), ()),
+    (texts.read, ("whole text",), ()),
+    (texts.read_row, ("task", "text"), ()),
 )
 # Those whose first argument is a task.
-ON_TASKS = tuple(told for told in FUNCTIONS if told[1][0] == "task")
+ON_TASKS = tuple(told for told in FUNCTIONS if KINDS[told[1][0]][1] == "BadTask")
 
 # Tasks of two columns and three rows with the errors that they have.
 ENDLESS = ("++", (-2, 3), FOOD[2][:2] + (((1, 0), ">=", 6),))
@@ -144,12 +175,20 @@ LATE = {
     ("task", "NoPlan"): (EMPTY,),
     ("task", "NoOther"): (("++", (2, 3), ()), ("++", (2, 3), FOOD[2] * 2 + FOOD[2][:1])),
     ("transport", "NotBest"): (((1, 0), (2, 0), ((1, 4), (2, 1))),),
+    ("bounded", "NoPlan"): (EMPTY, ("*", (0,), (((0,), "=", 1),))),
+    ("bounded", "NotBounded"): (FOOD, ENDLESS, ("*", (0,), ())),
     ("net", "NoWay"): ((2, ((1, 0, 1),)),),
 }
 
 
 def good(kinds):
     return [KINDS[kind][0] for kind in kinds]
+
+
+def error_of(kind):
+    """The error of a value that is not of a kind, and its fields."""
+    name = KINDS[kind][1]
+    return getattr(errors, name), {"index": None} if name == "BadTask" else {}
 
 
 class WrongArgumentsTest(Case):
@@ -160,11 +199,10 @@ class WrongArgumentsTest(Case):
     def test_one_wrong(self):
         for function, kinds, _ in FUNCTIONS:
             for at, kind in enumerate(kinds):
-                fields = {"index": None} if kind == "task" else {}
                 for value in KINDS[kind][2]():
                     args = good(kinds)
                     args[at] = value
-                    self.fails(getattr(errors, KINDS[kind][1]), fields, function, *args)
+                    self.fails(*error_of(kind), function, *args)
 
     def test_wrong_rows(self):
         for function, kinds, _ in ON_TASKS:
@@ -177,8 +215,7 @@ class WrongArgumentsTest(Case):
             for first in range(len(kinds)):
                 for value in STRANGERS:
                     args = good(kinds)[:first] + [{"an": "odd one"}] + [value] * (len(kinds) - first - 1)
-                    fields = {"index": None} if kinds[first] == "task" else {}
-                    self.fails(getattr(errors, KINDS[kinds[first]][1]), fields, function, *args)
+                    self.fails(*error_of(kinds[first]), function, *args)
 
     def test_other_errors(self):
         for function, kinds, late in FUNCTIONS:
@@ -190,8 +227,7 @@ class WrongArgumentsTest(Case):
         for function, kinds, _ in ON_TASKS:
             for task in (ENDLESS, EMPTY):
                 for at in range(1, len(kinds)):
-                    for value in (None, "a", [], {}, True, (True, 1), 1001):
+                    for value in (None, 7, [], {}, True, (True, 1), 1001):
                         args = [task] + good(kinds)[1:]
                         args[at] = value
-                        fields = {"index": None} if kinds[at] == "task" else {}
-                        self.fails(getattr(errors, KINDS[kinds[at]][1]), fields, function, *args)
+                        self.fails(*error_of(kinds[at]), function, *args)

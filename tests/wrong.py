@@ -243,3 +243,32 @@ def no_numbers():
         if not is_number(value):
             for at in range(4):
                 yield put((5, 1, 9, 3), (at,), value)
+
+
+def no_orders(many):
+    """Values that do not tell so many indexes, each once."""
+    rising = tuple(range(many))
+    for value in STRANGERS + (list(rising), rising[1:], rising + rising[:1], rising + (many,), dict.fromkeys(rising)):
+        yield value
+    for at in rising:
+        for value in STRANGERS + (-1, many, 10 ** 30, "0", (0,), rising[at - 1]):
+            if not is_int(value) or value != at:
+                yield put(rising, (at,), value)
+
+
+def no_factors(many):
+    """Values that are no tuples of so many integers from 1 to 1000."""
+    for value in STRANGERS + ((2,) * (many - 1), (2,) * (many + 1), [2] * many, dict.fromkeys(range(many)), ((2,),)):
+        if len(value if isinstance(value, tuple) else ()) != many or not all(map(is_number, value)):
+            yield value
+    for value in STRANGERS + (0, -1, 1001, 10 ** 30, "2", (2,), (1, 2)):
+        if not is_int(value) or not 1 <= value <= 1000:
+            for at in range(many):
+                yield put((2,) * many, (at,), value)
+
+
+def no_texts():
+    """Values that are no strings, or too long ones."""
+    for value in STRANGERS + (["a: a"], ("a: a",), "a" * 1001, "a: 0" + "; a=1" * 200, " " * 10000):
+        if not isinstance(value, str) or len(value) > 1000:
+            yield value
