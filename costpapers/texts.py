@@ -70,8 +70,8 @@ def digits_at(text, place):
 
 
 def number_of(digits):
-    """The number that is so written, None for one that is too great, and for none."""
-    if not 1 <= len(digits) <= MOST_DIGITS or int(digits) > MOST_NUMBER or str(int(digits)) != digits:
+    """The number up to 1000 that is so written, None if there is none."""
+    if len(digits) > MOST_DIGITS or int(digits) > MOST_NUMBER or str(int(digits)) != digits:
         return None
     return int(digits)
 
