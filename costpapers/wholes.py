@@ -120,14 +120,11 @@ def narrow_sum(points):
 
 
 def parted(rows, many):
-    """Numbers, and the least and the greatest integer that may be the sum by them of whole multiples that keep rows,
-    None if there are surely none."""
+    """Numbers, and the least and the greatest integer that is the sum by them of a plan of rows, which have plans."""
     for row in rows:
         if row[1] == "=" and has_numbers(row):
             return row[0], row[2], row[2]
     points = corners_in(rows, many)
-    if not points:
-        return None
     for row in rows:
         if has_numbers(row) and all([dot(row[0] + (-row[2],), point) == 0 for point in points]):
             return row[0], row[2], row[2]
@@ -138,15 +135,12 @@ def parted(rows, many):
 
 
 def some_point(rows, grid):
-    """A point of a grid that keeps rows, whose plans have ends, None if there is none."""
+    """A point of a grid that keeps rows, None if there is none. Between the points of the grid the rows have plans,
+    and these have ends."""
     base, steps = grid
-    told = [of_multiples(row, grid) for row in rows]
     if not steps:
-        return base if all([is_held(row, ()) for row in told]) else None
-    found = parted(told, len(steps))
-    if found is None:
-        return None
-    numbers, low, high = found
+        return base
+    numbers, low, high = parted([of_multiples(row, grid) for row in rows], len(steps))
     # The sums in the middle come first: there the most points are.
     right = (low + high) // 2
     for turn in range(high - low + 1):
@@ -159,7 +153,7 @@ def some_point(rows, grid):
 
 
 def some_whole(rows):
-    """A tuple of integers that keeps rows, whose plans have ends, None if there is none."""
+    """A tuple of integers that keeps rows, which have plans, and these have ends, None if there is none."""
     many = len(rows[0][0])
     return some_point(rows, ((0,) * many, [unit(many, column) for column in range(many)]))
 

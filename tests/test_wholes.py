@@ -11,7 +11,7 @@ from costpapers.tasks import is_plan
 from costpapers.wholes import best_whole, count_whole, full_rank, gap, is_plainly_whole, is_whole, whole_plans
 from tests import reckon
 from tests.reckon import dot, pair
-from tests.samples import FOOD, TASKS, Case
+from tests.samples import FOOD, TASKS, Case, put
 
 MILL = ("++", (-5, -4), (((6, 4), "<=", 24), ((1, 2), "<=", 6)))
 HALF = ("+", (0,), (((2,), "<=", 5),))
@@ -167,6 +167,10 @@ class WholePlansTest(Case):
         # No integer lies between the ends of one column, very many between those of the other one.
         self.gives(0, count_whole, ("++", (1, 1), (((3, 0), ">=", 1), ((3, 0), "<=", 2), ((0, 1), "<=", 1000))))
         self.gives([], whole_plans, ("++", (1, 1), (((0, 3), ">=", 1), ((0, 3), "<=", 2), ((1, -1000), "<=", 1000))))
+        many = ("+" * 6, (0,) * 6, box(*(1000,) * 6)[2] + (((0, 0, 0, 0, 0, 3), ">=", 1), ((0, 0, 0, 0, 0, 3), "<=", 2)))
+        self.gives([], whole_plans, many)
+        self.gives(0, count_whole, many)
+        self.gives(None, best_whole, many)
 
     def long_column(self, high):
         """A task of one column from 0 to a number above 1000, and one beside it that is the same in all plans."""
@@ -231,6 +235,34 @@ class FarPlansTest(Case):
         for costs in ((1, 1), (-3, -5), (0, 0), (7, 11), (1000, -999)):
             best = min((int(dot(costs, plan)), plan) for plan in told)
             self.gives(best, best_whole, ("**", costs, rows))
+
+    def test_one_plan_at_an_end(self):
+        # Each column is above 0, and so 1 at least: only the plan whose columns are all 1 has no greater sum.
+        for many in range(1, 7):
+            for side in (1, -1):
+                sign = ">=" if side == 1 else "<="
+                rows = tuple((tuple(1000 * item for item in reckon.one_at(many, at)), sign, side) for at in range(many))
+                total = ((1,) * many, "<=" if side == 1 else ">=", side * many)
+                costs = tuple(range(1, many + 1))
+                plan = (side,) * many
+                self.gives((int(dot(costs, plan)), plan), best_whole, ("*" * many, costs, (*rows, total)))
+                if many > 1:
+                    less = put(total, (2,), side * (many - 1))
+                    self.gives(None, best_whole, ("*" * many, costs, (*rows, less)))
+                if many < 6:
+                    self.gives([plan], whole_plans, ("*" * many, costs, (*rows, total)))
+
+    def test_few_plans_at_an_end(self):
+        # In the middle of these sets there is no whole plan.
+        for rows in (
+            (((-3, -2, 1, -3), ">=", 1), ((-3, -3, 3, 3), ">=", -6), ((2, 2, 0, -2), ">=", 4),
+             ((2, 0, -2, 2), ">=", -5), ((1, -3, 2, 0), "<=", 2)),
+            (((6, 6, -6, -1), ">=", 8), ((-5, 1, 5, 2), ">=", -9), ((7, 1, 1, 6), ">=", -21),
+             ((0, -8, -8, 7), ">=", 2), ((6, 7, -7, 7), "<=", 14)),
+        ):
+            for costs in ((0, 0, 0, 0), (1, 2, 3, 4), (-5, 3, 0, -1), (0, -1, 7, -9)):
+                plans = all_whole(("****", costs, rows))
+                self.gives(min((int(dot(costs, plan)), plan) for plan in plans), best_whole, ("****", costs, rows))
 
     def test_bounded_by_others(self):
         chance = random.Random(124)
