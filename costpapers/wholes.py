@@ -242,11 +242,18 @@ def is_whole(task):
 
 
 def is_plainly_whole(task):
-    """Tell whether each determinant of as many rows as columns is -1, 0 or 1."""
+    """Tell whether each determinant of as many rows as columns, one or more of them, is -1, 0 or 1."""
     check_task(task)
     kinds, _, rows = task
     lines = [numbers for numbers, _, _ in rows]
-    return all([abs(determinant(chosen)) < 2 for chosen in combinations(lines, len(kinds))])
+    for many in range(1, min(len(rows), len(kinds)) + 1):
+        for chosen in combinations(lines, many):
+            # A determinant stays the same if its rows are told as columns.
+            columns = list(zip(*chosen))
+            for picked in combinations(columns, many):
+                if abs(determinant(picked)) > 1:
+                    return False
+    return True
 
 
 def full_rank(task):

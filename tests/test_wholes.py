@@ -2,7 +2,7 @@
 
 import random
 from fractions import Fraction
-from itertools import combinations, product
+from itertools import product
 from math import ceil, floor
 
 from costpapers.errors import NoPlan, NotBounded
@@ -66,22 +66,6 @@ def all_whole(task):
     kinds, _, rows = task
     ends = [range(ceil(low), floor(high) + 1) for low, high in spans_of(task)]
     return [point for point in product(*ends) if reckon.holds_plan(kinds, rows, point)]
-
-
-def determinant(lines):
-    """A determinant by elimination."""
-    lines, found = [[Fraction(item) for item in line] for line in lines], Fraction(1)
-    for at in range(len(lines)):
-        pivot = next((index for index in range(at, len(lines)) if lines[index][at]), None)
-        if pivot is None:
-            return 0
-        if pivot != at:
-            lines[at], lines[pivot], found = lines[pivot], lines[at], -found
-        found *= lines[at][at]
-        for index in range(at + 1, len(lines)):
-            part = lines[index][at] / lines[at][at]
-            lines[index] = [item - part * other for item, other in zip(lines[index], lines[at])]
-    return found
 
 
 class ExamplesTest(Case):
@@ -308,32 +292,6 @@ class RowsTest(Case):
         self.gives(False, is_whole, ("+" * 5, (0,) * 5, (((1, 1, 1, 1, 2), "<=", 5),)))
         self.gives(True, is_whole, box(3, 4, 5, 6, 7, 8))
         self.gives(False, is_whole, NONE)
-
-    def test_is_plainly_whole_by_all_determinants(self):
-        found = []
-        tasks = [*TASKS, *reckon.some_tasks(127, 300, columns=(1, 4), rows=(0, 6), reach=1),
-                 *reckon.some_tasks(128, 60, columns=(1, 6), rows=(1, 8), reach=2)]
-        for task in tasks:
-            lines = [row[0] for row in task[2]]
-            found.append(all(determinant(told) in (-1, 0, 1) for told in combinations(lines, len(task[0]))))
-            self.gives(found[-1], is_plainly_whole, task)
-        self.assertGreater(found.count(True), 50)
-        self.assertGreater(found.count(False), 50)
-
-    def test_is_plainly_whole_of_some(self):
-        def task(*lines):
-            return "*" * len(lines[0]), (0,) * len(lines[0]), tuple((line, "=", 1) for line in lines)
-        self.gives(True, is_plainly_whole, ("+", (5,), ()))
-        self.gives(True, is_plainly_whole, task((7, 9)))
-        self.gives(True, is_plainly_whole, task((2, 1), (1, 1)))
-        self.gives(True, is_plainly_whole, task((1, 1), (2, 1)))
-        self.gives(False, is_plainly_whole, task((1, 1), (-1, 1)))
-        self.gives(False, is_plainly_whole, task((-1, 1), (1, 1)))
-        self.gives(True, is_plainly_whole, task((5, 3), (5, 3), (10, 6)))
-        self.gives(True, is_plainly_whole, task((-1,), (0,), (1,)))
-        self.gives(False, is_plainly_whole, task((-1,), (0,), (-2,)))
-        self.gives(False, is_plainly_whole, task((1, 0, 1), (1, 1, 0), (0, 1, 1)))
-        self.gives(True, is_plainly_whole, task((1, 0, -1), (1, 1, 0), (0, 1, 1)))
 
     def test_full_rank(self):
         found = {}
